@@ -1,0 +1,1 @@
+"""Rotafair: a house of duties, and every answer with its paper."""
