@@ -56,6 +56,47 @@ def is_plain(value):
     return isinstance(value, (ast.Constant, ast.Name))
 
 
+def drawn_names(tree):
+    return {alias.asname or alias.name for node in nodes(tree, ast.ImportFrom) for alias in node.names}
+
+
+def files_below(name, links):
+    """Every file that this one draws from, in however many steps."""
+    found, waiting = set(), list(links[name])
+    while waiting:
+        other = waiting.pop()
+        if other not in found:
+            found.add(other)
+            waiting += links[other]
+    return found
+
+
+def is_call(node, names):
+    return isinstance(node, ast.Call) and isinstance(node.func, ast.Name) and node.func.id in names
+
+
+def walked_parts(tree):
+    """The values that are walked on the spot."""
+    found = [node.iter for node in nodes(tree, (ast.For, ast.comprehension))]
+    takers = ("list", "tuple", "dict", "sorted", "sum", "any", "all", "enumerate", "zip", "min", "max")
+    for node in nodes(tree, ast.Call):
+        if is_call(node, takers) or getattr(node.func, "attr", "") == "join":
+            found += node.args
+    return found
+
+
+def is_changed(walked, body):
+    changing = ("append", "clear", "extend", "insert", "pop", "remove", "reverse", "setdefault", "update")
+    for node in [part for row in body for part in ast.walk(row)]:
+        if isinstance(node, ast.Attribute) and node.attr in changing and ast.dump(node.value) == walked:
+            return True
+        if isinstance(node, ast.AugAssign) and ast.dump(node.target).replace("Store", "Load") == walked:
+            return True
+        if isinstance(node, ast.Subscript) and isinstance(node.ctx, ast.Store) and ast.dump(node.value) == walked:
+            return True
+    return False
+
+
 class Form(unittest.TestCase):
     def test_files(self):
         for path in PACKAGE.iterdir():
@@ -153,6 +194,77 @@ class Form(unittest.TestCase):
         self.assertEqual(called - methods - set(OWN_METHODS), set())
         free = {name for kind in (str, int, list, dict, set, bytes) for name in dir(kind)}
         self.assertEqual((methods | values) & free - set(UNDERSCORED), set())
+
+    def test_where_names_are_drawn_from(self):
+        defined, links = {}, {}
+        for name, tree in trees().items():
+            tops = {node.name for node in tree.body if isinstance(node, (ast.FunctionDef, ast.ClassDef))}
+            tops |= {node.targets[0].id for node in tree.body if isinstance(node, ast.Assign)}
+            defined[name] = tops
+            links[name] = [node.module.split(".")[1] + ".py" for node in nodes(tree, ast.ImportFrom)]
+        for name, tree in trees().items():
+            for node in nodes(tree, ast.ImportFrom):
+                for alias in node.names:
+                    self.assertIn(alias.name, defined[node.module.split(".")[1] + ".py"], (name, alias.name))
+            self.assertNotIn(name, files_below(name, links))
+
+    def test_no_local_is_called_like_a_class_or_an_import(self):
+        for name, tree in trees().items():
+            taken = drawn_names(tree) | {node.name for node in nodes(tree, ast.ClassDef)}
+            for node in nodes(tree, (ast.FunctionDef, ast.Lambda)):
+                given = {part.arg for part in nodes(node, ast.arg)}
+                given |= {part.id for part in nodes(node, ast.Name) if isinstance(part.ctx, ast.Store)}
+                self.assertEqual(given & taken, set(), (name, node.lineno))
+
+    def test_each_import_is_used(self):
+        for name, tree in trees().items():
+            read = {node.id for node in nodes(tree, ast.Name)}
+            self.assertEqual(drawn_names(tree) - read, set(), name)
+
+    def test_sets_and_is(self):
+        for name, tree in trees().items():
+            held = []
+            for node in nodes(tree, ast.Call):
+                if is_call(node, ("len", "sorted")):
+                    held += [id(part) for part in node.args]
+            for node in nodes(tree, ast.Call):
+                if is_call(node, ("set", "frozenset")):
+                    self.assertIn(id(node), held, (name, node.lineno))
+            self.assertEqual(nodes(tree, ast.Set), [], name)
+            for node in nodes(tree, ast.Compare):
+                for operator, value in zip(node.ops, node.comparators):
+                    if isinstance(operator, (ast.Is, ast.IsNot)):
+                        self.assertIn(ast.unparse(value), ("None", "True", "False"), (name, node.lineno))
+
+    def test_walked_at_once(self):
+        for name, tree in trees().items():
+            walked = [id(part) for part in walked_parts(tree)]
+            for node in nodes(tree, ast.Call):
+                if is_call(node, ("zip", "enumerate", "reversed", "range")):
+                    self.assertIn(id(node), walked, (name, node.lineno))
+                if getattr(node.func, "attr", "") in ("items", "keys", "values"):
+                    self.assertIn(id(node), walked, (name, node.lineno))
+            for node in nodes(tree, ast.For):
+                parts = node.iter.args if isinstance(node.iter, ast.Call) else [node.iter]
+                for part in parts:
+                    self.assertFalse(is_changed(ast.dump(part), node.body), (name, node.lineno))
+
+    def test_errors(self):
+        own = {node.name for node in trees()["errors.py"].body if isinstance(node, ast.ClassDef)}
+        for name, tree in trees().items():
+            for node in nodes(tree, ast.ExceptHandler):
+                self.assertIn(getattr(node.type, "id", None), own, (name, node.lineno))
+            for node in nodes(tree, ast.Raise):
+                self.assertTrue(is_call(node.exc, own), (name, node.lineno))
+
+    def test_numbers_and_texts(self):
+        for name, tree in trees().items():
+            for node in nodes(tree, ast.Constant):
+                if isinstance(node.value, str):
+                    self.assertNotIn("%", node.value, (name, node.lineno))
+            for node in nodes(tree, ast.BinOp):
+                if isinstance(node.op, ast.Pow):
+                    self.assertIsInstance(node.right, ast.Constant, (name, node.lineno))
 
 
 if __name__ == "__main__":
